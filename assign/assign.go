@@ -1,7 +1,10 @@
 // Package assign: places tasks on machines at the least cost, and shows that it is the least: see DOC.md.
 package assign
 
-import "assign/api"
+import (
+	"assign/api"
+	"assign/network"
+)
 
 // Plan: a cluster, and what runs where.
 type Plan struct {
@@ -150,4 +153,4 @@ func (p *Plan) Solve() int { return 0 }
 func (p *Plan) Show() (api.Net, []int, []int) { return api.Net{}, nil, nil }
 
 // Check tells whether a flow and prices show that none is cheaper (P9).
-func Check(n api.Net, flow []int, prices []int) api.Errno { return api.OK }
+func Check(n api.Net, flow []int, prices []int) api.Errno { return network.Check(n, flow, prices) }

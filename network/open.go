@@ -1,0 +1,27 @@
+package network
+
+import (
+	"iter"
+
+	"assign/api"
+)
+
+// open: an arc on which something can still flow, with what one more costs.
+type open struct {
+	from, to int
+	cost     int
+}
+
+// opens tells, in the order of the arcs, what is open forth (less flows than may) and back (something flows that can be taken away again).
+func opens(n api.Net, flow []int) iter.Seq[open] {
+	return func(yield func(open) bool) {
+		for i, a := range n.Arcs {
+			if flow[i] < a.Cap && !yield(open{a.From, a.To, a.Cost}) {
+				return
+			}
+			if flow[i] > 0 && !yield(open{a.To, a.From, -a.Cost}) {
+				return
+			}
+		}
+	}
+}
