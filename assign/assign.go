@@ -147,7 +147,15 @@ func (p *Plan) Where(task int) (int, api.Errno) {
 }
 
 // Solve places all tasks at the least cost (P8).
-func (p *Plan) Solve() int { return 0 }
+func (p *Plan) Solve() int {
+	c := p.chart()
+	c.flow = network.Least(c.net, c.flow)
+	sum := 0
+	for _, t := range p.all(taskKind) {
+		sum += p.settle(t, c.place(t))
+	}
+	return sum
+}
 
 // Show tells a network, a flow and prices (P11).
 func (p *Plan) Show() (api.Net, []int, []int) { return api.Net{}, nil, nil }

@@ -37,3 +37,17 @@ func (p *Plan) costOnNone(task thing) int {
 	}
 	return c
 }
+
+// settle lets a task run on a machine, or on none if it stays at its job, and tells what that costs.
+// A task that runs has waited 0 all along, so only one that comes to a machine has something to lose.
+func (p *Plan) settle(task, place thing) int {
+	if place.kind != machineKind {
+		c := p.costOnNone(task)
+		delete(p.runs, task)
+		return c
+	}
+	c := p.costOn(task, place)
+	p.runs[task] = place
+	delete(p.waited, task)
+	return c
+}

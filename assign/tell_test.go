@@ -91,25 +91,3 @@ func TestTellErrors(t *testing.T) {
 		}
 	}
 }
-
-// The document's example; what its Solve finds is laid by hand.
-func TestExample(t *testing.T) {
-	p := example(t)
-	costs(t, p, 1, 5, 10)
-	costs(t, p, 1, 6, 30)
-	costs(t, p, 1, -1, 100)
-	costs(t, p, 2, 5, 3)
-	costs(t, p, 2, 6, 40)
-	runOn(p, 1, 6)
-	runOn(p, 2, 5)
-	costs(t, p, 1, 6, 30)
-	costs(t, p, 1, 5, 60)
-	costs(t, p, 1, -1, 150)
-	allOK(t, p.Remove(api.OfMachine, 5))
-	where(t, p, 2, -1)
-	p.Tick()
-	p.Tick()
-	costs(t, p, 2, -1, 102)
-	allOK(t, p.Prefer(2, api.OfRack, 0, 7))
-	costs(t, p, 2, 6, 7)
-}

@@ -49,6 +49,15 @@ func allFlows(n api.Net) [][]int {
 	return out
 }
 
+// leastOf: what the cheapest of some flows costs.
+func leastOf(n api.Net, flows [][]int) int {
+	least := cost(n, flows[0])
+	for _, f := range flows {
+		least = min(least, cost(n, f))
+	}
+	return least
+}
+
 // fair: prices for a flow, as short ways over what is open; with a flow that isn't the cheapest they show nothing.
 func fair(n api.Net, flow []int) []int {
 	prices := make([]int, n.Nodes)
@@ -83,10 +92,7 @@ func TestCheapestAlone(t *testing.T) {
 	for range 1500 {
 		n, _ := someNet(r)
 		flows := allFlows(n)
-		least := cost(n, flows[0])
-		for _, f := range flows {
-			least = min(least, cost(n, f))
-		}
+		least := leastOf(n, flows)
 		for _, f := range flows {
 			prices := fair(n, f)
 			if cost(n, f) == least {

@@ -21,7 +21,7 @@ func openNet() (api.Net, []int) {
 
 // What is open is told in the order of the arcs, forth ahead of back.
 func TestOpens(t *testing.T) {
-	want := []open{{0, 1, 5}, {1, 2, 6}, {2, 1, -6}, {0, 2, -7}, {1, 1, 9}, {1, 1, -9}}
+	want := []open{{0, 1, 5, 0, 1}, {1, 2, 6, 1, 1}, {2, 1, -6, 1, -1}, {0, 2, -7, 2, -1}, {1, 1, 9, 4, 1}, {1, 1, -9, 4, -1}}
 	if got := slices.Collect(opens(openNet())); !slices.Equal(got, want) {
 		t.Errorf("open are %v, want %v", got, want)
 	}
