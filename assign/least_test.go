@@ -168,7 +168,7 @@ func TestSolveTheGreatest(t *testing.T) {
 			allOK(t, p.Rack(k), p.Job(k, r.Intn(api.MaxCost+1)))
 		}
 		for k := range api.MaxMachines {
-			allOK(t, p.Machine(k, r.Intn(api.MaxRacks), 1+r.Intn(2)))
+			allOK(t, p.Machine(k, r.Intn(api.MaxRacks), 1+r.Intn([]int{1, 2, 2, api.MaxSlots}[i%4])))
 		}
 		for k := range api.MaxTasks {
 			allOK(t, p.Task(k, r.Intn(api.MaxJobs), r.Intn(api.MaxCost+1)))
