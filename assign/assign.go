@@ -2,6 +2,8 @@
 package assign
 
 import (
+	"slices"
+
 	"assign/api"
 	"assign/network"
 )
@@ -12,6 +14,7 @@ type Plan struct {
 	runs    map[thing]thing // by task the machine; a task that runs on none isn't here
 	waited  map[thing]int   // by task the ticks; a task that isn't here has waited none
 	prefers map[wish]int    // the cost
+	last    showing         // of the last Solve
 }
 
 // New makes a plan without anything.
@@ -149,7 +152,9 @@ func (p *Plan) Where(task int) (int, api.Errno) {
 // Solve places all tasks at the least cost (P8).
 func (p *Plan) Solve() int {
 	c := p.chart()
-	c.flow = network.Least(c.net, c.flow)
+	flow, prices := network.Least(c.net, c.flow)
+	p.last = showing{c.net, flow, prices}
+	c.flow = slices.Clone(flow) // it is used up by placing, and shown later
 	sum := 0
 	for _, t := range p.all(taskKind) {
 		sum += p.settle(t, c.place(t))
@@ -157,8 +162,12 @@ func (p *Plan) Solve() int {
 	return sum
 }
 
-// Show tells a network, a flow and prices (P11).
-func (p *Plan) Show() (api.Net, []int, []int) { return api.Net{}, nil, nil }
+// Show tells the network that was solved last, its flow, and prices (P11). They are copies, so that nobody can write into what is shown next time.
+func (p *Plan) Show() (api.Net, []int, []int) {
+	s := p.last
+	s.net.Supply, s.net.Arcs = slices.Clone(s.net.Supply), slices.Clone(s.net.Arcs)
+	return s.net, slices.Clone(s.flow), slices.Clone(s.prices)
+}
 
 // Check tells whether a flow and prices show that none is cheaper (P9).
 func Check(n api.Net, flow []int, prices []int) api.Errno { return network.Check(n, flow, prices) }

@@ -14,6 +14,12 @@ type chart struct {
 	things []thing // by node
 }
 
+// showing: a network, a flow of it, and prices that show that none costs less.
+type showing struct {
+	net          api.Net
+	flow, prices []int
+}
+
 // chart draws the network of the plan; what flows on it is what runs.
 func (p *Plan) chart() *chart {
 	c := &chart{nodes: map[thing]int{}}

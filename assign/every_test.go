@@ -16,7 +16,10 @@ func busyPlans(t *testing.T) []*Plan {
 	q := example(t)
 	runOn(q, 2, 5)
 	q.Tick()
-	return []*Plan{New(), q, p}
+	r := example(t)
+	r.Solve()
+	allOK(t, r.Task(4, 0, 50))
+	return []*Plan{New(), q, p, r}
 }
 
 // calls: every call of a plan, with three numbers as its arguments.
@@ -64,6 +67,7 @@ func TestAskingChangesNothing(t *testing.T) {
 		before := copied(p)
 		for _, a := range wild {
 			p.Where(a)
+			p.Show()
 			for _, b := range wild {
 				p.Cost(a, b)
 			}

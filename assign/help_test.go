@@ -4,6 +4,7 @@ import (
 	"maps"
 	"math"
 	"reflect"
+	"slices"
 	"testing"
 
 	"assign/api"
@@ -54,7 +55,10 @@ func runOn(p *Plan, task, machine int) {
 
 // copied: a plan of the same state that shares nothing.
 func copied(p *Plan) *Plan {
-	return &Plan{maps.Clone(p.things), maps.Clone(p.runs), maps.Clone(p.waited), maps.Clone(p.prefers)}
+	l := p.last
+	l.net.Supply, l.net.Arcs = slices.Clone(l.net.Supply), slices.Clone(l.net.Arcs)
+	l.flow, l.prices = slices.Clone(l.flow), slices.Clone(l.prices)
+	return &Plan{maps.Clone(p.things), maps.Clone(p.runs), maps.Clone(p.waited), maps.Clone(p.prefers), l}
 }
 
 // same: two plans are of the same state.

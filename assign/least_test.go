@@ -74,7 +74,7 @@ func at(t *testing.T, p *Plan, task thing) int {
 	return m
 }
 
-// solved: what a Solve answers, held against all that P8 says.
+// solved: what a Solve answers, held against all that P8 says; and what is shown behind it, against P11.
 func solved(t *testing.T, p *Plan) int {
 	t.Helper()
 	before, want := copied(p), least(t, p)
@@ -104,8 +104,9 @@ func solved(t *testing.T, p *Plan) int {
 		}
 	}
 	unchanged := copied(p)
-	unchanged.runs, unchanged.waited = before.runs, before.waited
-	same(t, "P8: but for what runs and waits", unchanged, before)
+	unchanged.runs, unchanged.waited, unchanged.last = before.runs, before.waited, before.last
+	same(t, "P8: but for what runs and waits, and what is shown", unchanged, before)
+	shown(t, p, asWords(t, before), got)
 	return got
 }
 

@@ -192,6 +192,7 @@ func TestSolveLeavesWhatRunOnLays(t *testing.T) {
 	p.Tick()
 	q.Tick()
 	solves(t, p, 33)
+	p.last = q.last
 	runOn(q, 1, 6)
 	runOn(q, 2, 5)
 	same(t, "P8: behind a Solve", p, q)

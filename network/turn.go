@@ -9,20 +9,23 @@ import (
 // nowhere stands for the node that isn't there.
 const nowhere = -1
 
-// Least begins with a flow of n, and turns it round in circles that save something until there is none left: then no flow costs less.
-func Least(n api.Net, flow []int) []int {
-	flow = slices.Clone(flow)
-	for c := circle(n, flow); len(c) > 0; c = circle(n, flow) {
+// Least begins with a flow of n, and turns it round in circles that save something until there is none left: then no flow costs less, and the prices show it.
+func Least(n api.Net, flow []int) (least, prices []int) {
+	least = slices.Clone(flow)
+	for {
+		c, costs := circle(n, least)
+		if len(c) == 0 {
+			return least, costs
+		}
 		for _, o := range c {
-			flow[o.arc] += o.by
+			least[o.arc] += o.by
 		}
 	}
-	return flow
 }
 
-// circle: open arcs that lead round and save something together; none, if there is no such circle.
-// Every node is begun with, at no cost, for a circle may lie where no other node leads to.
-func circle(n api.Net, flow []int) []open {
+// circle: open arcs that lead round and save something together; if there is no such circle, none, and what it costs to come to each node.
+// Every node is begun with, at no cost, for a circle may lie where no other node leads to. So no node costs more than 0, nor less than one arc for each other node can save: the costs are prices that may be.
+func circle(n api.Net, flow []int) ([]open, []int) {
 	costs := make([]int, n.Nodes)
 	last := slices.Repeat([]open{{from: nowhere}}, n.Nodes)
 	for cheaper := true; cheaper; {
@@ -35,11 +38,11 @@ func circle(n api.Net, flow []int) []open {
 			cheaper = true
 			costs[o.to], last[o.to] = c, o
 			if found := back(last, o.to); len(found) > 0 {
-				return found
+				return found, nil
 			}
 		}
 	}
-	return nil
+	return nil, costs
 }
 
 // back goes from a node to that from which it was reached, and so on: the arcs, if that leads round to the node again, else none.

@@ -8,12 +8,12 @@ import (
 	"assign/api"
 )
 
-// least: Least answers a flow, in memory of its own, and writes neither into what is handed in nor into the spare room behind it.
+// least: Least answers a flow and prices that show it to be the cheapest (P10), in memory of their own, and writes neither into what is handed in nor into the spare room behind it.
 func least(t *testing.T, n api.Net, start []int) []int {
 	t.Helper()
 	mine := roomy(start, 77)
 	before := slices.Clone(mine[:cap(mine)])
-	got := Least(n, mine)
+	got, prices := Least(n, mine)
 	if !slices.Equal(mine[:cap(mine)], before) {
 		t.Fatalf("P8: Least(%v, %v) writes into what is handed in", n, start)
 	}
@@ -22,6 +22,14 @@ func least(t *testing.T, n api.Net, start []int) []int {
 	}
 	if !isFlow(n, got) {
 		t.Fatalf("P8: Least(%v, %v) is %v, and that is no flow", n, start, got)
+	}
+	is(t, "P11: the prices of the least", asked{n, got, prices}, api.OK)
+	whole := slices.Clone(got)
+	for i := range prices[:cap(prices)] {
+		prices[:cap(prices)][i] = -1
+	}
+	if !slices.Equal(got, whole) {
+		t.Fatalf("P11: Least(%v, %v) answers two lists that share memory", n, start)
 	}
 	return got
 }
@@ -105,6 +113,11 @@ func TestLeastFindsCircles(t *testing.T) {
 	is("all nodes", net(60, ring...), make([]int, 60), slices.Repeat([]int{1}, 60))
 	slices.Reverse(ring)
 	is("all nodes, told from the end", net(60, ring...), make([]int, 60), slices.Repeat([]int{1}, 60))
+	var way []api.Arc
+	for i := range api.MaxNodes - 1 {
+		way = append(way, api.Arc{From: i, To: i + 1, Cap: 1, Cost: -api.MaxArcCost})
+	}
+	is("no circle, but the longest way there is, at prices that go as far down as any", net(api.MaxNodes, way...), make([]int, len(way)), make([]int, len(way)))
 }
 
 // P8: what is told as a circle is one, of open arcs, and saves something; a flow that costs least has none.
@@ -113,10 +126,11 @@ func TestCircle(t *testing.T) {
 	some, none := 0, 0
 	for range 5000 {
 		n, flow := someNet(r)
-		c := circle(n, flow)
+		c, prices := circle(n, flow)
 		if len(c) == 0 {
 			none++
 			is(t, "P8: no circle", asked{n, flow, fair(n, flow)}, api.OK)
+			is(t, "P11: the prices, where there is no circle", asked{n, flow, prices}, api.OK)
 			continue
 		}
 		some++
